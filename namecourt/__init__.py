@@ -1,0 +1,1 @@
+"""Petitions, votes and rulings of a commission on names."""
