@@ -1,8 +1,8 @@
-"""Cases outside of their votes: petitioned, commented on, withdrawn, published, shown."""
+"""Cases outside of their votes: petitioned, commented on, withdrawn, published, shown, listed."""
 
 from namecourt.court import ADOPTED, BEFORE_SECOND_VOTE, COMMENTS, PUBLISHED, WITHDRAWN, Case, is_key
 from namecourt.refusals import FULL, NOT_THERE, THERE_ALREADY, WRONG_KEY, WRONG_PHASE
-from namecourt.texts import ANNUL, one_form, proposals_of, text_refusal
+from namecourt.texts import ANNUL, CONSERVE, FIX, one_form, proposals_of, text_refusal
 
 MOST_CASES = 32
 MOST_COMMENTS = 100
@@ -86,3 +86,22 @@ def tell_phase(court, key):
     if case is None:
         return [NOT_THERE]
     return [case.phase, case.opened, case.comments, case.last_comment, case.closing, case.published]
+
+
+def is_about(proposal, n):
+    """Whether a proposal of the kinds 0 to 4 is about the name n."""
+    kind = proposal[0]
+    # The numbers of the kinds behind FIX are those of works and rulings, not of names.
+    if kind > FIX:
+        return False
+    return proposal[1] == n or (kind == CONSERVE and proposal[2] == n)
+
+
+def is_pending_on(case, n):
+    """Whether a case in the phases 1 to 5 has a proposal about the name n."""
+    return case.phase <= ADOPTED and any([is_about(proposal, n) for proposal in case.proposals])
+
+
+def stays(court, n):
+    """Call stays: the cases, by rising keys, that may yet lead to a ruling about the name n."""
+    return [0] + [key for key in sorted(court.cases) if is_pending_on(court.cases[key], n)]

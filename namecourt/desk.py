@@ -1,10 +1,12 @@
 """The calls on one commission, handed in and answered as lists of whole numbers."""
 
-from namecourt.cases import comment, petition, publish, show, tell_phase, withdraw
+from namecourt.cases import comment, petition, publish, show, stays, tell_phase, withdraw
 from namecourt.court import Court
-from namecourt.members import go_to_day, leave, preside, seat
+from namecourt.effects import conserved, fixed_at, over, rejected, status, tell_index
+from namecourt.force import because, check, in_force, tell_rulings
+from namecourt.members import go_to_day, leave, preside, seat, tell_office
 from namecourt.texts import read_text
-from namecourt.votes import ballot, close, open_vote
+from namecourt.votes import ballot, close, open_vote, tally
 
 
 class Feed:
@@ -94,6 +96,75 @@ def do_phase(court, feed):
     return tell_phase(court, feed.take())
 
 
+def do_tally(court, feed):
+    return tally(court, feed.take())
+
+
+def do_office(court, feed):
+    return tell_office(court)
+
+
+def do_rulings(court, feed):
+    return tell_rulings(court, feed.take())
+
+
+def do_in_force(court, feed):
+    d = feed.take()
+    key = feed.take()
+    return in_force(court, d, key)
+
+
+def do_because(court, feed):
+    d = feed.take()
+    key = feed.take()
+    return because(court, d, key)
+
+
+def do_check(court, feed):
+    d = feed.take()
+    key = feed.take()
+    v = feed.take()
+    row = feed.take_row()
+    return check(court, d, key, v, row)
+
+
+def do_status(court, feed):
+    d = feed.take()
+    n = feed.take()
+    return status(court, d, n)
+
+
+def do_over(court, feed):
+    d = feed.take()
+    n = feed.take()
+    m = feed.take()
+    return over(court, d, n, m)
+
+
+def do_fixed_at(court, feed):
+    d = feed.take()
+    n = feed.take()
+    return fixed_at(court, d, n)
+
+
+def do_rejected(court, feed):
+    d = feed.take()
+    w = feed.take()
+    return rejected(court, d, w)
+
+
+def do_index(court, feed):
+    return tell_index(court, feed.take())
+
+
+def do_conserved(court, feed):
+    return conserved(court, feed.take())
+
+
+def do_stays(court, feed):
+    return stays(court, feed.take())
+
+
 # A call's number is its place here.
 CALLS = (
     do_day,
@@ -110,6 +181,19 @@ CALLS = (
     do_read,
     do_show,
     do_phase,
+    do_tally,
+    do_office,
+    do_rulings,
+    do_in_force,
+    do_because,
+    do_check,
+    do_status,
+    do_over,
+    do_fixed_at,
+    do_rejected,
+    do_index,
+    do_conserved,
+    do_stays,
 )
 
 

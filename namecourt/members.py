@@ -62,3 +62,11 @@ def preside(court, member):
         return [NOT_THERE]
     court.presiding = member
     return [0]
+
+
+def tell_office(court):
+    """Call office: who presides, then who is in office and up to which day."""
+    told = [0, court.presiding]
+    for member in sorted(court.last_days):
+        told.extend([member, court.last_days[member]])
+    return told

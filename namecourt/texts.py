@@ -7,8 +7,13 @@ from namecourt.court import is_key
 from namecourt.refusals import OVER_ITSELF, TOO_MANY_PROPOSALS, WRONG_NUMBER, WRONG_TEXT
 
 MOST_PROPOSALS = 6
+
+RESTORE = 0
+SUPPRESS = 1
+SUPPRESS_WHOLLY = 2
 CONSERVE = 3
 FIX = 4
+REJECT = 5
 ANNUL = 6
 
 BLANK = 32

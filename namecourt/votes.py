@@ -100,3 +100,11 @@ def close(court, key):
         return [WRONG_TIME]
     case.phase = outcome(court, case)
     return [case.phase]
+
+
+def tally(court, key):
+    """Call tally: the ballots of the last vote, for, against and neither."""
+    case = court.cases.get(key)
+    if case is None:
+        return [NOT_THERE]
+    return [0] + [ballots_cast(case, v) for v in (FOR, AGAINST, NEITHER)]

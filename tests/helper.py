@@ -69,6 +69,58 @@ def phase(case):
     return [13, case]
 
 
+def tally(case):
+    return [14, case]
+
+
+def office():
+    return [15]
+
+
+def rulings(d=LAST_DAY):
+    return [16, d]
+
+
+def in_force(d, case):
+    return [17, d, case]
+
+
+def because(d, case):
+    return [18, d, case]
+
+
+def check(d, case, v, row):
+    return [19, d, case, v, len(row)] + list(row)
+
+
+def status(d, n):
+    return [20, d, n]
+
+
+def over(d, n, m):
+    return [21, d, n, m]
+
+
+def type_at(d, n):
+    return [22, d, n]
+
+
+def rejected(d, w):
+    return [23, d, w]
+
+
+def index(d=LAST_DAY):
+    return [24, d]
+
+
+def conserved(d=LAST_DAY):
+    return [25, d]
+
+
+def stays(n):
+    return [26, n]
+
+
 def joined(calls):
     return [number for call in calls for number in call]
 
@@ -111,9 +163,9 @@ def cast(votes, case=1):
     return [ballot(case, member, v) for member, v in enumerate(votes, start=1) if v != 0]
 
 
-def in_second_vote(members=5, case=1):
+def in_second_vote(members=5, case=1, text="suppress 5"):
     """Calls that lead to a second vote on day 271; the first was 3 for, 2 against."""
-    first = in_first_vote(members, case) + cast([1, 1, 1, 2, 2], case)
+    first = in_first_vote(members, case, text) + cast([1, 1, 1, 2, 2], case)
     return first + [day(271), close(case), open_vote(case)]
 
 
@@ -122,3 +174,44 @@ def made_ruling(case, text="suppress 5", today=0, members=3):
     votes = [ballot(case, member, 1) for member in range(1, members + 1)]
     opening = [petition(case, text), day(today + 180), open_vote(case)]
     return opening + votes + [close(case), publish(case)]
+
+
+def in_phase(number, text="suppress 5"):
+    """Calls that lead case 1, petitioned on day 0, to a phase; members 1 to 5 are in office but in 1 and 7."""
+    if number == 1:
+        return [petition(1, text)]
+    if number == 7:
+        return [petition(1, text), withdraw(1)]
+    if number == 2:
+        return in_first_vote(text=text)
+    if number == 4:
+        return in_second_vote(text=text)
+    votes = {3: [1, 1, 1, 2, 2], 5: [1, 1, 1, 1, 1], 6: [2, 2, 2, 2, 2], 8: [1, 1, 1, 1, 1]}
+    ended = in_first_vote(text=text) + cast(votes[number]) + [close(1)]
+    return ended + [publish(1)] if number == 8 else ended
+
+
+def with_rulings(texts):
+    """Calls that publish a ruling of each text: the first is case 1 of day 180, the second case 2 of day 360 .."""
+    calls = [seat(member) for member in (1, 2, 3)]
+    for place, text in enumerate(texts):
+        calls += made_ruling(place + 1, text, today=180 * place)
+    return calls
+
+
+def with_rulings_of_one_day(texts):
+    """Calls that publish the rulings of a dict, case to text, on day 180, in the dict's order."""
+    calls = [seat(member) for member in (1, 2, 3)]
+    calls += [petition(case, texts[case]) for case in sorted(texts)] + [day(180)]
+    for case in sorted(texts):
+        calls += [open_vote(case)] + cast([1, 1, 1], case) + [close(case)]
+    return calls + [publish(case) for case in texts]
+
+
+def asked(calls, questions):
+    """The answers to questions that come behind calls, a list for each; as many lists of calls as it takes."""
+    told = []
+    room = 400 - len(calls)
+    for start in range(0, len(questions), room):
+        told += run(calls + questions[start:start + room])[len(calls):]
+    return told

@@ -1,4 +1,4 @@
-"""The calls petition, withdraw, comment, publish, phase."""
+"""The calls petition, withdraw, comment, publish, phase, stays."""
 
 import unittest
 
@@ -7,27 +7,12 @@ from tests import helper as h
 WRONG_CASES = (2, 0, -1, h.FAR, -h.FAR)
 
 
-def in_phase(number):
-    """Calls that lead case 1, petitioned on day 0, to a phase."""
-    if number == 1:
-        return [h.petition(1)]
-    if number == 7:
-        return [h.petition(1), h.withdraw(1)]
-    votes = {3: [1, 1, 1, 2, 2], 5: [1, 1, 1, 1, 1], 6: [2, 2, 2, 2, 2], 8: [1, 1, 1, 1, 1]}
-    if number == 4:
-        return h.in_second_vote()
-    if number == 2:
-        return h.in_first_vote()
-    ended = h.in_first_vote() + h.cast(votes[number]) + [h.close(1)]
-    return ended + [h.publish(1)] if number == 8 else ended
-
-
 class Phases(unittest.TestCase):
     """What each call on a case does in each of the eight phases."""
 
     def check(self, call, allowed, otherwise=-13):
         for number in range(1, 9):
-            calls = in_phase(number) + [h.phase(1), call, h.phase(1)]
+            calls = h.in_phase(number) + [h.phase(1), call, h.phase(1)]
             told = h.run(calls)[-3:]
             self.assertEqual(told[0][0], number)
             if number in allowed:
@@ -83,7 +68,7 @@ class Petition(unittest.TestCase):
 
     def test_annuls_rulings_alone(self):
         for number in range(1, 9):
-            calls = in_phase(number) + [h.petition(2, "annul 1"), h.phase(2)]
+            calls = h.in_phase(number) + [h.petition(2, "annul 1"), h.phase(2)]
             told = h.run(calls)[-2:]
             if number == 8:
                 self.assertEqual([told[0], told[1][0]], [[1], 1])
@@ -96,15 +81,15 @@ class Petition(unittest.TestCase):
 
     def test_one_of_several_annuls_what_is_no_ruling(self):
         for text in ("annul 1; annul 9", "annul 9; annul 1", "suppress 1; annul 9"):
-            self.assertEqual(h.last(in_phase(8) + [h.petition(2, text)]), [-6])
-        self.assertEqual(h.last(in_phase(8) + [h.petition(2, "suppress 9; annul 1")]), [2])
+            self.assertEqual(h.last(h.in_phase(8) + [h.petition(2, text)]), [-6])
+        self.assertEqual(h.last(h.in_phase(8) + [h.petition(2, "suppress 9; annul 1")]), [2])
 
     def test_32_cases(self):
         calls = [h.petition(key) for key in range(1, 33)]
         self.assertEqual(h.run(calls + [h.petition(33), h.phase(33)]), [[1]] * 32 + [[-8], [-6]])
 
     def test_cases_count_in_whatever_phase(self):
-        calls = in_phase(8) + [h.petition(key) for key in range(2, 33)] + [h.withdraw(2), h.petition(33)]
+        calls = h.in_phase(8) + [h.petition(key) for key in range(2, 33)] + [h.withdraw(2), h.petition(33)]
         self.assertEqual(h.run(calls)[-2:], [[0], [-8]])
 
     def test_the_order_of_refusals(self):
@@ -124,12 +109,12 @@ class Petition(unittest.TestCase):
 
 class Withdraw(unittest.TestCase):
     def test_from_phases_1_and_3(self):
-        self.assertEqual(h.last(in_phase(1) + [h.withdraw(1), h.phase(1)]), [7, 0, 0, 0, 0, 0])
-        self.assertEqual(h.last(in_phase(3) + [h.withdraw(1), h.phase(1)]), [7, 0, 0, 0, 270, 0])
+        self.assertEqual(h.last(h.in_phase(1) + [h.withdraw(1), h.phase(1)]), [7, 0, 0, 0, 0, 0])
+        self.assertEqual(h.last(h.in_phase(3) + [h.withdraw(1), h.phase(1)]), [7, 0, 0, 0, 270, 0])
 
     def test_no_such_case(self):
         for case in WRONG_CASES:
-            self.assertEqual(h.last(in_phase(1) + [h.withdraw(case)]), [-6])
+            self.assertEqual(h.last(h.in_phase(1) + [h.withdraw(case)]), [-6])
 
     def test_the_other_cases_stay(self):
         calls = [h.petition(1), h.petition(2), h.withdraw(1), h.phase(2)]
@@ -147,7 +132,7 @@ class Comment(unittest.TestCase):
 
     def test_no_such_case(self):
         for case in WRONG_CASES:
-            self.assertEqual(h.last(in_phase(1) + [h.comment(case)]), [-6])
+            self.assertEqual(h.last(h.in_phase(1) + [h.comment(case)]), [-6])
 
     def test_100_comments(self):
         calls = [h.petition(1)] + [h.comment(1)] * 100 + [h.day(5), h.comment(1), h.phase(1)]
@@ -162,7 +147,7 @@ class Comment(unittest.TestCase):
 
 class Publish(unittest.TestCase):
     def test_keeps_the_day(self):
-        calls = in_phase(5) + [h.day(300), h.publish(1), h.day(301), h.phase(1)]
+        calls = h.in_phase(5) + [h.day(300), h.publish(1), h.day(301), h.phase(1)]
         self.assertEqual(h.run(calls)[-3:], [[1], [0], [8, 0, 0, 0, 270, 300]])
 
     def test_how_many_rulings_there_are(self):
@@ -172,7 +157,7 @@ class Publish(unittest.TestCase):
             self.assertEqual(h.last(calls), [place + 1])
 
     def test_only_once(self):
-        calls = in_phase(8) + [h.day(999), h.publish(1), h.phase(1)]
+        calls = h.in_phase(8) + [h.day(999), h.publish(1), h.phase(1)]
         self.assertEqual(h.run(calls)[-2:], [[-13], [8, 0, 0, 0, 270, 180]])
 
     def test_adopted_in_the_second_vote(self):
@@ -181,20 +166,20 @@ class Publish(unittest.TestCase):
 
     def test_no_such_case(self):
         for case in WRONG_CASES:
-            self.assertEqual(h.last(in_phase(5) + [h.publish(case)]), [-6])
+            self.assertEqual(h.last(h.in_phase(5) + [h.publish(case)]), [-6])
 
     def test_refusals_add_no_ruling(self):
-        calls = in_phase(5) + [h.publish(2), h.petition(2), h.publish(2), h.publish(1)]
+        calls = h.in_phase(5) + [h.publish(2), h.petition(2), h.publish(2), h.publish(1)]
         self.assertEqual(h.run(calls)[-4:], [[-6], [1], [-13], [1]])
 
 
 class Phase(unittest.TestCase):
     def test_no_such_case(self):
         for case in WRONG_CASES:
-            self.assertEqual(h.last(in_phase(1) + [h.phase(case)]), [-6])
+            self.assertEqual(h.last(h.in_phase(1) + [h.phase(case)]), [-6])
 
     def test_the_days_of_each_phase(self):
-        told = [h.last(in_phase(number) + [h.phase(1)]) for number in range(1, 9)]
+        told = [h.last(h.in_phase(number) + [h.phase(1)]) for number in range(1, 9)]
         self.assertEqual(told, [
             [1, 0, 0, 0, 0, 0], [2, 0, 0, 0, 270, 0], [3, 0, 0, 0, 270, 0], [4, 0, 0, 0, 361, 0],
             [5, 0, 0, 0, 270, 0], [6, 0, 0, 0, 270, 0], [7, 0, 0, 0, 0, 0], [8, 0, 0, 0, 270, 180]])
@@ -202,6 +187,55 @@ class Phase(unittest.TestCase):
     def test_comments_are_still_told_later(self):
         calls = [h.day(2), h.petition(1), h.day(10), h.comment(1), h.day(182), h.open_vote(1), h.phase(1)]
         self.assertEqual(h.last(calls), [2, 2, 1, 10, 272, 0])
+
+
+class Stays(unittest.TestCase):
+    def test_no_case(self):
+        self.assertEqual(h.last([h.stays(5)]), [0])
+
+    def test_in_each_phase(self):
+        for number in range(1, 9):
+            told = h.run(h.in_phase(number) + [h.phase(1), h.stays(5), h.stays(6)])[-3:]
+            self.assertEqual(told[0][0], number)
+            self.assertEqual(told[1:], [[0, 1] if number <= 5 else [0], [0]], number)
+
+    def test_each_kind(self):
+        about = {"restore 5": (5,), "suppress 5": (5,), "suppress 5 wholly": (5,), "conserve 5 over 6": (5, 6),
+                 "conserve 6 over 5": (5, 6), "type 5 is 6": (5,), "type 6 is 5": (6,), "type 5 is 5": (5,),
+                 "reject work 5": ()}
+        for text in about:
+            for n in (5, 6, 7):
+                expected = [0, 9] if n in about[text] else [0]
+                self.assertEqual(h.last([h.petition(9, text), h.stays(n)]), expected, (text, n))
+
+    def test_annulments_are_about_no_name(self):
+        calls = h.with_rulings(["suppress 1"]) + [h.petition(2, "annul 1"), h.stays(1), h.stays(2)]
+        self.assertEqual(h.run(calls)[-2:], [[0], [0]])
+        calls = h.with_rulings(["suppress 1"]) + [h.petition(2, "annul 1; restore 1"), h.stays(1)]
+        self.assertEqual(h.last(calls), [0, 2])
+
+    def test_by_rising_keys(self):
+        calls = [h.petition(30), h.petition(h.LARGEST_KEY), h.petition(4), h.petition(7, "suppress 6"), h.petition(100)]
+        self.assertEqual(h.last(calls + [h.stays(5)]), [0, 4, 30, 100, h.LARGEST_KEY])
+        self.assertEqual(h.last(calls + [h.withdraw(30), h.stays(5)]), [0, 4, 100, h.LARGEST_KEY])
+
+    def test_one_of_several_proposals(self):
+        text = "reject work 5; conserve 1 over 2; type 3 is 4; restore 7"
+        for n in range(9):
+            expected = [0, 8] if n in (1, 2, 3, 7) else [0]
+            self.assertEqual(h.last([h.petition(8, text), h.stays(n)]), expected, n)
+
+    def test_a_case_is_told_once(self):
+        calls = [h.petition(8, "suppress 5; restore 5; conserve 5 over 6; conserve 7 over 5"), h.stays(5)]
+        self.assertEqual(h.last(calls), [0, 8])
+
+    def test_any_other_number_is_no_name(self):
+        for n in (0, -1, -5, h.LARGEST_KEY + 1, h.FAR, -h.FAR):
+            self.assertEqual(h.last([h.petition(1), h.petition(2, "conserve 5 over 6"), h.stays(n)]), [0])
+
+    def test_the_smallest_and_the_largest_name(self):
+        calls = [h.petition(1, "conserve 1 over 1000000000"), h.stays(1), h.stays(h.LARGEST_KEY)]
+        self.assertEqual(h.run(calls)[1:], [[0, 1], [0, 1]])
 
 
 if __name__ == "__main__":

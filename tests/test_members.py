@@ -1,4 +1,4 @@
-"""The calls day, seat, leave, preside."""
+"""The calls day, seat, leave, preside, office."""
 
 import unittest
 
@@ -144,6 +144,51 @@ class Preside(unittest.TestCase):
 
     def test_somebody_elses_last_day_does_not_end_it(self):
         self.assertEqual(tied([h.leave(2), h.seat(2, 280), h.preside(1), h.day(281)]), [5])
+
+
+class Office(unittest.TestCase):
+    def test_nobody_at_the_beginning(self):
+        self.assertEqual(h.run([h.office(), h.day(5), h.office()]), [[0, 0], [0], [0, 0]])
+
+    def test_by_rising_keys_with_their_last_days(self):
+        calls = [h.seat(30, 9), h.seat(h.LARGEST_KEY, 0), h.seat(4, h.LAST_DAY), h.seat(100, 7), h.office()]
+        self.assertEqual(h.last(calls), [0, 0, 4, h.LAST_DAY, 30, 9, 100, 7, h.LARGEST_KEY, 0])
+
+    def test_who_presides_comes_first(self):
+        begin = [h.seat(3), h.seat(2, 9), h.seat(8)]
+        for member in (2, 3, 8):
+            self.assertEqual(h.last(begin + [h.preside(member), h.office()])[:2], [0, member])
+        calls = begin + [h.preside(8), h.preside(2), h.office()]
+        self.assertEqual(h.last(calls), [0, 2, 2, 9, 3, h.LAST_DAY, 8, h.LAST_DAY])
+
+    def test_whoever_leaves_is_told_no_more(self):
+        begin = [h.seat(3, 7), h.seat(2, 9), h.preside(2)]
+        self.assertEqual(h.last(begin + [h.leave(3), h.office()]), [0, 2, 2, 9])
+        self.assertEqual(h.last(begin + [h.leave(2), h.office()]), [0, 0, 3, 7])
+        self.assertEqual(h.last(begin + [h.leave(2), h.seat(2, 8), h.office()]), [0, 0, 2, 8, 3, 7])
+
+    def test_on_the_last_day_and_behind_it(self):
+        begin = [h.seat(3, 7), h.seat(2, 9), h.preside(3)]
+        self.assertEqual(h.last(begin + [h.day(7), h.office()]), [0, 3, 2, 9, 3, 7])
+        self.assertEqual(h.last(begin + [h.day(8), h.office()]), [0, 0, 2, 9])
+        self.assertEqual(h.last(begin + [h.day(10), h.office()]), [0, 0])
+
+    def test_seated_anew_behind_the_last_day(self):
+        begin = [h.seat(3, 7), h.preside(3), h.day(8), h.seat(3, 8)]
+        self.assertEqual(h.last(begin + [h.office()]), [0, 0, 3, 8])
+        self.assertEqual(h.last(begin + [h.preside(3), h.office()]), [0, 3, 3, 8])
+
+    def test_refusals_change_nothing(self):
+        calls = [h.seat(3, 7), h.preside(3), h.seat(3, 9), h.seat(0), h.preside(4), h.leave(4), h.day(-1), h.office()]
+        self.assertEqual(h.last(calls), [0, 3, 3, 7])
+
+    def test_30_members(self):
+        calls = [h.seat(member, member) for member in range(30, 0, -1)] + [h.seat(31), h.office()]
+        told = [number for member in range(1, 31) for number in (member, member)]
+        self.assertEqual(h.last(calls), [0, 0] + told)
+
+    def test_asking_changes_nothing(self):
+        self.assertEqual(h.run([h.seat(1, 5), h.preside(1), h.office(), h.office()])[2:], [[0, 1, 1, 5]] * 2)
 
 
 if __name__ == "__main__":

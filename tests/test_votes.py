@@ -1,4 +1,4 @@
-"""The calls openVote, ballot, close."""
+"""The calls openVote, ballot, close, tally."""
 
 import unittest
 
@@ -17,6 +17,11 @@ class OpenVote(unittest.TestCase):
         begin = [h.petition(1), h.comment(1), h.day(170), h.comment(1)]
         self.assertEqual(h.run(begin + [h.day(199), h.open_vote(1), h.phase(1)])[5:], [[-14], [1, 0, 2, 170, 0, 0]])
         self.assertEqual(h.run(begin + [h.day(200), h.open_vote(1), h.phase(1)])[5:], [[290], [2, 0, 2, 170, 290, 0]])
+
+    def test_30_days_after_the_only_comment(self):
+        begin = [h.petition(1), h.day(170), h.comment(1)]
+        self.assertEqual(h.last(begin + [h.day(199), h.open_vote(1)]), [-14])
+        self.assertEqual(h.last(begin + [h.day(200), h.open_vote(1)]), [290])
 
     def test_a_comment_long_ago_does_not_shorten_the_180_days(self):
         begin = [h.petition(1), h.comment(1)]
@@ -242,6 +247,51 @@ class SecondVote(unittest.TestCase):
     def test_the_case_is_told_in_its_new_phase(self):
         calls = h.in_second_vote() + h.cast([1, 1, 1, 2, 2]) + [h.close(1), h.phase(1)]
         self.assertEqual(h.run(calls)[-2:], [[5], [5, 0, 0, 0, 361, 0]])
+
+
+class Tally(unittest.TestCase):
+    def test_no_such_case(self):
+        for case in WRONG_CASES:
+            self.assertEqual(h.last(h.in_first_vote() + [h.tally(case)]), [-6])
+
+    def test_without_a_vote(self):
+        self.assertEqual(h.last([h.petition(1), h.tally(1)]), [0, 0, 0, 0])
+        self.assertEqual(h.last([h.petition(1), h.withdraw(1), h.tally(1)]), [0, 0, 0, 0])
+
+    def test_for_against_and_neither(self):
+        begin = h.in_first_vote(10)
+        self.assertEqual(h.last(begin + [h.tally(1)]), [0, 0, 0, 0])
+        self.assertEqual(h.last(begin + [h.ballot(1, 7, 1), h.tally(1)]), [0, 1, 0, 0])
+        self.assertEqual(h.last(begin + [h.ballot(1, 7, 2), h.tally(1)]), [0, 0, 1, 0])
+        self.assertEqual(h.last(begin + [h.ballot(1, 7, 3), h.tally(1)]), [0, 0, 0, 1])
+        self.assertEqual(h.last(begin + h.cast([3, 1, 2, 1, 1, 2, 1, 0, 3, 3]) + [h.tally(1)]), [0, 4, 2, 3])
+
+    def test_refused_ballots_do_not_count(self):
+        calls = h.in_first_vote(3) + [h.ballot(1, 1, 1), h.ballot(1, 1, 2), h.ballot(1, 9, 1), h.ballot(1, 2, 4)]
+        self.assertEqual(h.last(calls + [h.tally(1)]), [0, 1, 0, 0])
+        self.assertEqual(h.last(calls + [h.day(271), h.ballot(1, 2, 1), h.tally(1)]), [0, 1, 0, 0])
+
+    def test_ballots_count_when_their_member_is_not_in_office_any_more(self):
+        calls = h.in_first_vote(3) + h.cast([1, 2, 3]) + [h.leave(1), h.leave(2), h.seat(2), h.leave(3), h.tally(1)]
+        self.assertEqual(h.last(calls), [0, 1, 1, 1])
+
+    def test_the_last_vote_is_told_when_it_is_closed(self):
+        begin = h.in_first_vote() + h.cast([1, 1, 1, 2, 2]) + [h.close(1)]
+        self.assertEqual(h.last(begin + [h.tally(1)]), [0, 3, 2, 0])
+        self.assertEqual(h.last(begin + [h.withdraw(1), h.tally(1)]), [0, 3, 2, 0])
+        begin = h.in_first_vote() + h.cast([1, 1, 1, 2, 3]) + [h.close(1)]
+        self.assertEqual(h.last(begin + [h.tally(1)]), [0, 3, 1, 1])
+        self.assertEqual(h.last(begin + [h.publish(1), h.tally(1)]), [0, 3, 1, 1])
+
+    def test_the_second_vote_begins_without_ballots(self):
+        self.assertEqual(h.last(h.in_second_vote() + [h.tally(1)]), [0, 0, 0, 0])
+        self.assertEqual(h.last(h.in_second_vote() + [h.ballot(1, 4, 3), h.tally(1)]), [0, 0, 0, 1])
+        self.assertEqual(h.last(h.in_second_vote() + [h.day(362), h.close(1), h.tally(1)]), [0, 0, 0, 0])
+
+    def test_each_case_has_its_own(self):
+        calls = [h.seat(1), h.petition(1), h.petition(2), h.day(180), h.open_vote(1), h.open_vote(2)]
+        calls += [h.ballot(1, 1, 1), h.ballot(2, 1, 2), h.tally(1), h.tally(2)]
+        self.assertEqual(h.run(calls)[-2:], [[0, 1, 0, 0], [0, 0, 1, 0]])
 
 
 if __name__ == "__main__":
